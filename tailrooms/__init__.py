@@ -1,0 +1,1 @@
+"""Tailrooms: tables that grow a room at a time by last bits."""

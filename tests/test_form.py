@@ -1,0 +1,76 @@
+"""Tests of the package's form: its files, the language's small part, and the interface's names."""
+
+import ast
+import re
+import unittest
+from importlib import import_module
+from inspect import signature
+from pathlib import Path
+
+from form import faults_of_file, own_values
+
+PACKAGE = Path(__file__).resolve().parent.parent / "tailrooms"
+INTERFACE = {
+    "errors": {
+        "TailError": None, "NoSize": ["thing"], "NoKey": ["key"], "NoThing": ["thing"], "NoRoom": ["number"],
+        "Lacking": ["key"], "Full": ["many"], "NoMark": ["mark"], "Busy": None, "NoText": None, "NoLine": None,
+        "NoName": ["name"], "Taken": ["name"],
+    },
+    "kinds": {"is_whole": ["thing"], "is_key": ["thing"], "is_name": ["thing"], "is_size": ["thing"]},
+    "bits": {
+        "last_bits": ["key", "many"], "level": ["rooms"], "turn": ["rooms"], "room_of": ["key", "rooms"],
+        "turned": ["key"], "split_of": ["rooms"], "joined_of": ["rooms"],
+    },
+}
+BAD = (
+    "import os\n", "from os import path\n", "x = 1\nx = 2\n", "def f(*xs):\n    return 1\n", "x = 1.5\n",
+    "def f(n):\n    return 2 ** n\n", "def f(a, b):\n    return a is b\n", "def f(a):\n    return a / 2\n",
+    "def f(a):\n    return getattr(a, 'b')\n", "def f(a):\n    return a.encode()\n", "def f(list):\n    return 1\n",
+    "def f(a):\n    with a:\n        pass\n", "def f(a):\n    yield a\n", "def _f(a):\n    return a\n",
+    "# the type of it\n", "# a tab\there\n", "x = 1" + " " * 120 + "\n", "x = 1\n" * 401,
+    "def f(a):\n" + "    a = 1\n" * 40, "def f(a):\n    return any(x for x in a)\n", "print('a')\n",
+    "def f(a):\n    return (b := a)\n", "for x in [1]:\n    pass\n", "def f(a):\n    return a.many\n",
+)
+
+
+def package_files():
+    return sorted(path for path in PACKAGE.iterdir() if path.name != "__pycache__")
+
+
+class Form(unittest.TestCase):
+    def test_files(self):
+        for path in package_files():
+            self.assertTrue(path.is_file() and re.fullmatch(r"(__init__|__main__|[a-z][a-z0-9_]*)\.py", path.name), path)
+        self.assertIn(PACKAGE / "__init__.py", package_files())
+
+    def test_each_file_keeps_to_the_rules(self):
+        methods, values = set(), set()
+        for path in package_files():
+            more_methods, more_values = own_values(ast.parse(path.read_text()))
+            methods |= more_methods
+            values |= more_values
+        self.assertEqual(methods & values, set())
+        for path in package_files():
+            self.assertEqual(faults_of_file(path.read_text(), methods | values), [], path.name)
+
+    def test_what_breaks_a_rule_is_seen(self):
+        for text in BAD:
+            self.assertNotEqual(faults_of_file(text, set()), [], text)
+
+    def test_plain_code_has_no_fault(self):
+        text = "LAST = 2 ** 60\n\n\ndef f(key):\n    return [k for k in range(key) if k is not None]\n"
+        self.assertEqual(faults_of_file(text, set()), [])
+
+
+class Interface(unittest.TestCase):
+    def test_names_and_arguments(self):
+        for module, names in INTERFACE.items():
+            drawn = import_module("tailrooms." + module)
+            for name, arguments in names.items():
+                thing = getattr(drawn, name)
+                if arguments is not None:
+                    self.assertEqual(list(signature(thing).parameters), arguments, name)
+
+
+if __name__ == "__main__":
+    unittest.main()

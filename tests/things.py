@@ -1,0 +1,40 @@
+"""Things of many kinds, for the tests that hand in whatever there is."""
+
+from random import Random
+
+END = 2 ** 60
+FAR = 10 ** 49
+
+
+def whatever():
+    """New things of every kind, none of them a whole number, a key, a size or a name."""
+    return [
+        None, True, False, b"a", b"", set(), {1}, object(), int, len,
+        [], [1], ["a"], [[]], [1, [2, "b"]],
+        (), (1,), ("a",), ((),), (1, (2, "b")),
+        {}, {1: 2}, {"a": [1]}, {(1, 2): None},
+        "", " ", "1", "A", "None", "True", "a b", "a\n", "\ta", "-",
+    ]
+
+
+def drawn_keys(many):
+    """The same keys each time, some of few bits and some of many."""
+    draw = Random(60)
+    return [draw.randrange(2 ** draw.randint(1, 60)) for at in range(many)]
+
+
+def edge_keys():
+    """Keys at the edges, the neighbours of the powers of two among them."""
+    keys = {0, END - 1}
+    for bit in range(60):
+        keys |= {2 ** bit - 1, 2 ** bit, (2 ** bit + 1) % END}
+    return sorted(keys)
+
+
+def edge_rooms():
+    """Numbers of rooms from 1 on: all the small ones, powers of two, one less and one more, and drawn ones."""
+    draw = Random(12)
+    rooms = set(range(1, 70)) | {END - 1, END}
+    for bit in range(1, 60):
+        rooms |= {2 ** bit - 1, 2 ** bit, 2 ** bit + 1, draw.randint(2 ** bit, 2 ** (bit + 1) - 1)}
+    return sorted(rooms)
