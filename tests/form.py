@@ -129,11 +129,50 @@ def faults_of_top(tree):
     return told + [f"the name {name} is bound twice" for name in sorted(set(seen)) if seen.count(name) > 1]
 
 
+def drawn_names(tree):
+    """The pairs (file, name) of all that a file draws in from the package's other files."""
+    rows = [node for node in tree.body if isinstance(node, ast.ImportFrom) and node.module.startswith("tailrooms.")]
+    return [(row.module.removeprefix("tailrooms."), part.name) for row in rows for part in row.names]
+
+
+def faults_of_shadows(tree):
+    """Parameters, locals and defs within defs that are called like a class or an import of their file."""
+    taken = {name for module, name in drawn_names(tree)}
+    taken |= {node.name for node in tree.body if isinstance(node, ast.ClassDef)}
+    told = []
+    for node in ast.walk(tree):
+        if isinstance(node, (ast.FunctionDef, ast.Lambda)):
+            inner = [part for part in ast.walk(node) if part is not node]
+            given = bound_names(ast.Module(inner, [])) & taken
+            told += [f"{node.lineno}: the name {name} of a class or an import" for name in sorted(given)]
+    return told
+
+
+def faults_of_draws(trees):
+    """Of all files by their names: names drawn from a file that doesn't define them, and files in a ring."""
+    told = []
+    draws = {}
+    for name, tree in trees.items():
+        draws[name] = sorted({module for module, part in drawn_names(tree)})
+        for module, part in drawn_names(tree):
+            tops = [node for node in trees[module].body if not isinstance(node, ast.ImportFrom)]
+            if part not in bound_names(ast.Module(tops, [])):
+                told.append(f"{name}: {part} isn't defined in {module}")
+    while draws:
+        ends = [name for name in draws if not [module for module in draws[name] if module in draws]]
+        if not ends:
+            return told + [f"files that draw from one another: {sorted(draws)}"]
+        for name in ends:
+            del draws[name]
+    return told
+
+
 def faults_of_file(text, own):
     """All faults of a file's text; own are the methods and values of the whole package."""
     tree = ast.parse(text)
     names = bound_names(tree)
     told = faults_of_text(text) + faults_of_names(names, own_values(tree)[0]) + faults_of_top(tree)
+    told += faults_of_shadows(tree)
     for node in ast.walk(tree):
         fault = fault_of_node(node, names, own)
         if fault is not None:

@@ -3,38 +3,11 @@
 import unittest
 
 from tailrooms.bits import joined_of, last_bits, level, room_of, split_of, turn, turned
+from plain import grown, level_by_doubling, tail, written
 from things import END, drawn_keys, edge_keys, edge_rooms
 
 KEYS = edge_keys() + drawn_keys(200)
 ROOMS = edge_rooms()
-
-
-def written(key):
-    """The key's sixty bits, the last one at the end."""
-    return bin(key)[2:].zfill(60)
-
-
-def tail(key, many):
-    """The number of the last signs of the written key."""
-    return int("0" + written(key)[60 - many:], 2)
-
-
-def level_by_doubling(rooms):
-    found = 0
-    while 2 ** (found + 1) <= rooms:
-        found += 1
-    return found
-
-
-def grown(keys, rooms):
-    """A dict of each key's room by so many rooms, split one after another as the document tells."""
-    room = {key: 0 for key in keys}
-    for many in range(1, rooms):
-        at = level_by_doubling(many)
-        for key in keys:
-            if room[key] == many - 2 ** at and written(key)[59 - at] == "1":
-                room[key] = many
-    return room
 
 
 class BitsTest(unittest.TestCase):

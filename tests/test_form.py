@@ -7,7 +7,7 @@ from importlib import import_module
 from inspect import signature
 from pathlib import Path
 
-from form import faults_of_file, own_values
+from form import faults_of_draws, faults_of_file, own_values
 
 PACKAGE = Path(__file__).resolve().parent.parent / "tailrooms"
 INTERFACE = {
@@ -21,6 +21,18 @@ INTERFACE = {
         "last_bits": ["key", "many"], "level": ["rooms"], "turn": ["rooms"], "room_of": ["key", "rooms"],
         "turned": ["key"], "split_of": ["rooms"], "joined_of": ["rooms"],
     },
+    "trails": {"trail": ["key", "rooms"], "stay": ["key", "room"], "parted": ["one", "other"]},
+    "rows": {"rows_of": ["keys", "wide"], "rows_for": ["many", "wide"], "looked": ["rows", "key"]},
+    "spread": {
+        "spread": ["keys", "rooms"], "counts": ["keys", "rooms"], "spill": ["counts", "wide"],
+        "longest": ["counts", "wide"], "all_looks": ["keys", "rooms", "wide"],
+    },
+    "table": {
+        "rooms_for": ["count", "fill"], "Table": ["wide", "fill"], "Table.put": ["self", "key", "thing"],
+        "Table.drop": ["self", "key"], "Table.find": ["self", "key"], "Table.looks": ["self", "key"],
+        "Table.count": ["self"], "Table.rooms": ["self"], "Table.spill": ["self"], "Table.entries": ["self"],
+        "Table.room": ["self", "number"], "Table.longest": ["self"], "Table.twin": ["self"],
+    },
 }
 BAD = (
     "import os\n", "from os import path\n", "x = 1\nx = 2\n", "def f(*xs):\n    return 1\n", "x = 1.5\n",
@@ -30,6 +42,18 @@ BAD = (
     "# the type of it\n", "# a tab\there\n", "x = 1" + " " * 120 + "\n", "x = 1\n" * 401,
     "def f(a):\n" + "    a = 1\n" * 40, "def f(a):\n    return any(x for x in a)\n", "print('a')\n",
     "def f(a):\n    return (b := a)\n", "for x in [1]:\n    pass\n", "def f(a):\n    return a.many\n",
+    "from tailrooms.bits import turn\n\n\ndef f(turn):\n    return turn\n",
+    "from tailrooms.bits import turn\n\n\ndef f(a):\n    return [turn for turn in a]\n",
+    "class A:\n    pass\n\n\ndef f(a):\n    A = a\n    return A\n",
+)
+BAD_DRAWS = (
+    {"a": "from tailrooms.b import x\n", "b": "y = 1\n"},
+    {"a": "from tailrooms.b import x\n", "b": "from tailrooms.c import x\n", "c": "x = 1\n"},
+    {"a": "from tailrooms.b import x\ny = 1\n", "b": "from tailrooms.a import y\nx = 1\n"},
+    {
+        "a": "from tailrooms.b import x\ny = 1\n", "b": "from tailrooms.c import z\nx = 1\n",
+        "c": "from tailrooms.a import y\nz = 1\n",
+    },
 )
 
 
@@ -57,6 +81,12 @@ class Form(unittest.TestCase):
         for text in BAD:
             self.assertNotEqual(faults_of_file(text, set()), [], text)
 
+    def test_files_draw_from_where_a_name_is_defined_and_in_no_ring(self):
+        trees = {path.stem: ast.parse(path.read_text()) for path in package_files()}
+        self.assertEqual(faults_of_draws(trees), [])
+        for texts in BAD_DRAWS:
+            self.assertNotEqual(faults_of_draws({name: ast.parse(text) for name, text in texts.items()}), [], texts)
+
     def test_plain_code_has_no_fault(self):
         text = "LAST = 2 ** 60\n\n\ndef f(key):\n    return [k for k in range(key) if k is not None]\n"
         self.assertEqual(faults_of_file(text, set()), [])
@@ -67,7 +97,9 @@ class Interface(unittest.TestCase):
         for module, names in INTERFACE.items():
             drawn = import_module("tailrooms." + module)
             for name, arguments in names.items():
-                thing = getattr(drawn, name)
+                thing = drawn
+                for part in name.split("."):
+                    thing = getattr(thing, part)
                 if arguments is not None:
                     self.assertEqual(list(signature(thing).parameters), arguments, name)
 
