@@ -106,3 +106,80 @@ def plain_table(things, wide, fill):
         "find": {key: (things[key], looks[key][1]) for key in things},
         "looks": looks,
     }
+
+
+def plain_yard(wide, rooms, things):
+    """The clean yard of the dict's entries."""
+    spread = plain_spread(list(things), rooms)
+    return (wide, rooms, [plain_rows([(key, things[key]) for key in own], wide) for own in spread])
+
+
+def plain_found(yard, key):
+    """The tuple (thing, looks) of a look through the key's room."""
+    wide, rooms, held = yard
+    room = ways(key, rooms)[-1]
+    if room >= len(held):
+        return (None, 0)
+    there, looks = plain_look([[other for other, thing in row] for row in held[room]], key)
+    things = [thing for other, thing in held[room][looks - 1] if other == key] if there else [None]
+    return (things[0], looks)
+
+
+def plain_done(yard, step):
+    """The yard behind a step, the rows kept by their rooms and places in between."""
+    wide, rooms, held = yard
+    many = {room: len(rows) for room, rows in enumerate(held)}
+    laid = {(room, at): row for room, rows in enumerate(held) for at, row in enumerate(rows)}
+    if step[0] == "rooms":
+        rooms = step[1]
+    elif step[0] == "cut":
+        many[step[1]] = min(many.get(step[1], 0), step[2])
+    else:
+        many[step[1]] = max(many.get(step[1], 0), step[2] + 1)
+        laid[step[1], step[2]] = step[3]
+    last = max([room for room in many if many[room] > 0], default=-1)
+    there = [[list(laid.get((room, at), [])) for at in range(many.get(room, 0))] for room in range(last + 1)]
+    return (wide, rooms, there)
+
+
+def plain_onward(room, old, new):
+    """The steps of a rewriting onward."""
+    steps = []
+    for at in range(len(new)):
+        if len(old) <= at:
+            steps.append(("row", room, at, new[at]))
+        elif old[at] != new[at]:
+            steps.append(("row", room, at, new[at]))
+    return steps + [("cut", room, len(new))] * (len(old) > len(new))
+
+
+def plain_backward(room, old, new):
+    """The steps of a rewriting backward."""
+    steps = []
+    for at in range(len(new) - 1, -1, -1):
+        if old[at:at + 1] != [new[at]]:
+            steps.append(("row", room, at, new[at]))
+    return steps
+
+
+def plain_mended(yard):
+    """The mended yard, entry by entry."""
+    wide, rooms, held = yard
+    things = {}
+    for room in range(min(rooms, len(held))):
+        for row in held[room]:
+            for key, thing in row:
+                if ways(key, rooms)[-1] == room and key not in things:
+                    things[key] = thing
+    return plain_yard(wide, rooms, things)
+
+
+def plain_book(keys, rooms):
+    """The book of the keys, from the keys' rooms ahead of each split and behind it."""
+    book = []
+    for many in range(1, rooms):
+        split = many - 2 ** level_by_doubling(many)
+        own = [key for key in keys if ways(key, 130)[many - 1] == split]
+        goes = [key for key in own if ways(key, 130)[many] == many]
+        book.append((split, many, len(own) - len(goes), len(goes)))
+    return book

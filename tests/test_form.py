@@ -33,6 +33,18 @@ INTERFACE = {
         "Table.count": ["self"], "Table.rooms": ["self"], "Table.spill": ["self"], "Table.entries": ["self"],
         "Table.room": ["self", "number"], "Table.longest": ["self"], "Table.twin": ["self"],
     },
+    "yards": {
+        "yard_of": ["wide", "rooms", "entries"], "is_clean": ["yard"], "done": ["yard", "step"],
+        "done_all": ["yard", "steps"], "found": ["yard", "key"],
+    },
+    "changes": {
+        "splitting": ["yard"], "joining": ["yard"], "putting": ["yard", "key", "thing"], "dropping": ["yard", "key"],
+    },
+    "mends": {"mended": ["yard"], "mending": ["yard"]},
+    "books": {
+        "book_of": ["keys", "rooms"], "is_book": ["count", "thing"], "counts_by": ["count", "book", "rooms"],
+        "spills_by": ["count", "book", "wide"], "least_rooms": ["count", "book", "wide", "spill"],
+    },
 }
 BAD = (
     "import os\n", "from os import path\n", "x = 1\nx = 2\n", "def f(*xs):\n    return 1\n", "x = 1.5\n",

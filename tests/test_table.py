@@ -7,13 +7,12 @@ from random import Random
 from tailrooms.errors import Full, Lacking, NoKey, NoRoom, NoSize, NoThing
 from tailrooms.table import Table, rooms_for
 from plain import plain_rooms_for, plain_rows, plain_look, plain_spread, plain_table
-from things import END, FAR, drawn_keys, edge_keys, whatever
+from things import END, FAR, WORDS, drawn_keys, edge_keys, some_entries, whatever
 
 SIZES = range(1, 9)
 NO_KEYS = whatever() + [-1, -END, END, END + 1, 2 ** 64, FAR, -FAR, "a", "5", "abc"]
 NO_THINGS = whatever() + [0, 1, -1, 5, END, FAR, "abcdefghi", "aB", "a1", "a-b"]
 NO_SIZES = whatever() + [0, 9, 10, -1, -8, END, END + 1, FAR, -FAR, "a", "8"]
-WORDS = ("a", "b", "zz", "word", "eight", "abcdefgh", "zzzzzzzz", "k")
 
 
 def told(table):
@@ -32,12 +31,6 @@ def filled(wide, fill, entries):
     for key, thing in entries:
         table.put(key, thing)
     return table
-
-
-def some_entries(many, draw):
-    """Entries of unlike keys, small, far and of one room, in whatever order."""
-    keys = list(range(40)) + edge_keys() + drawn_keys(60) + [64 * at + 3 for at in range(1, 40)]
-    return [(key, draw.choice(WORDS)) for key in draw.sample(sorted(set(keys)), many)]
 
 
 class TableTest(unittest.TestCase):

@@ -4,6 +4,7 @@ from random import Random
 
 END = 2 ** 60
 FAR = 10 ** 49
+WORDS = ("a", "b", "zz", "word", "eight", "abcdefgh", "zzzzzzzz", "k")
 
 
 def whatever():
@@ -38,3 +39,9 @@ def edge_rooms():
     for bit in range(1, 60):
         rooms |= {2 ** bit - 1, 2 ** bit, 2 ** bit + 1, draw.randint(2 ** bit, 2 ** (bit + 1) - 1)}
     return sorted(rooms)
+
+
+def some_entries(many, draw):
+    """Entries of unlike keys, small, far and of one room, in whatever order."""
+    keys = list(range(40)) + edge_keys() + drawn_keys(60) + [64 * at + 3 for at in range(1, 40)]
+    return [(key, draw.choice(WORDS)) for key in draw.sample(sorted(set(keys)), many)]
