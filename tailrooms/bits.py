@@ -18,14 +18,18 @@ def turn(rooms):
     return rooms - (1 << level(rooms))
 
 
+def bits_for(room, rooms):
+    """How many of a key's last bits tell that it is in the room, by so many rooms."""
+    deep = level(rooms)
+    if turn(rooms) <= room < 1 << deep:
+        return deep
+    # This room has been split already at this level, or has come by it: one bit more tells the halves apart.
+    return deep + 1
+
+
 def room_of(key, rooms):
     """The key's room by so many rooms."""
-    deep = level(rooms)
-    room = last_bits(key, deep)
-    if room >= turn(rooms):
-        return room
-    # This room has been split already at this level, so one bit more tells its halves apart.
-    return last_bits(key, deep + 1)
+    return last_bits(key, bits_for(last_bits(key, level(rooms)), rooms))
 
 
 def split_of(rooms):

@@ -183,3 +183,10 @@ def plain_book(keys, rooms):
         goes = [key for key in own if ways(key, 130)[many] == many]
         book.append((split, many, len(own) - len(goes), len(goes)))
     return book
+
+
+def all_puts(rooms, more):
+    """All lists of so many whole numbers from 0 on that come to more."""
+    if rooms == 1:
+        return [[more]]
+    return [[comes] + put for comes in range(more + 1) for put in all_puts(rooms - 1, more - comes)]

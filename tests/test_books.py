@@ -8,26 +8,10 @@ from random import Random
 from tailrooms.books import book_of, counts_by, is_book, least_rooms, spills_by
 from tailrooms.spread import counts
 from plain import plain_book, plain_spill, plain_spread
-from things import END, FAR, drawn_keys, edge_keys, some_entries, whatever
+from things import END, FAR, drawn_book, drawn_keys, edge_keys, some_keys, whatever
 
 SIZES = range(1, 9)
 ROOMS = [1, 2, 3, 4, 5, 8, 9, 31, 64, 100, 129, 130]
-
-
-def some_keys(many, draw):
-    return [key for key, thing in some_entries(many, draw)]
-
-
-def drawn_book(count, rooms, draw):
-    """A book of no known keys: each room's number parted by chance."""
-    had, book = [count], []
-    for many in range(1, rooms):
-        room = int("0" + bin(many)[3:], 2)
-        stays = draw.choice((0, had[room], draw.randint(0, had[room])))
-        book.append((room, many, stays, had[room] - stays))
-        had.append(had[room] - stays)
-        had[room] = stays
-    return book
 
 
 def some_books(seed):

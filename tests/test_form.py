@@ -45,6 +45,16 @@ INTERFACE = {
         "book_of": ["keys", "rooms"], "is_book": ["count", "thing"], "counts_by": ["count", "book", "rooms"],
         "spills_by": ["count", "book", "wide"], "least_rooms": ["count", "book", "wide", "spill"],
     },
+    "keysfor": {"keys_for": ["count", "book"]},
+    "further": {
+        "greatest_spill": ["counts", "wide", "more"], "least_spill": ["counts", "wide", "more"],
+        "is_greatest": ["counts", "wide", "more", "thing"], "is_least": ["counts", "wide", "more", "thing"],
+        "fewest_for": ["counts", "wide", "spill"], "most_for": ["counts", "wide", "spill"],
+    },
+    "outlook": {"outlook": ["keys", "wide", "fill", "more"]},
+    "marks": {
+        "END": None, "stretch_of": ["room", "rooms"], "line_of": ["rooms"], "room_at": ["mark", "rooms"],
+    },
 }
 BAD = (
     "import os\n", "from os import path\n", "x = 1\nx = 2\n", "def f(*xs):\n    return 1\n", "x = 1.5\n",

@@ -7,6 +7,7 @@ from random import Random
 from tailrooms.errors import Full, Lacking, NoKey, NoRoom, NoSize, NoThing
 from tailrooms.table import Table, rooms_for
 from plain import plain_rooms_for, plain_rows, plain_look, plain_spread, plain_table
+from refusing import RefusalTest
 from things import END, FAR, WORDS, drawn_keys, edge_keys, some_entries, whatever
 
 SIZES = range(1, 9)
@@ -33,19 +34,13 @@ def filled(wide, fill, entries):
     return table
 
 
-class TableTest(unittest.TestCase):
+class TableTest(RefusalTest):
     def same(self, table, things):
         """The table tells just what a table of the dict's entries is to tell."""
         answer = plain_table(things, table.wide, table.fill)
         self.assertEqual(told(table), answer)
         self.assertEqual([type(table.count()), type(table.rooms()), type(table.spill())], [int] * 3)
         self.assertEqual([type(table.longest()), type(table.entries())], [tuple, list])
-
-    def refused(self, refusal, name, thing, deed, *handed):
-        with self.assertRaises(refusal) as taken:
-            deed(*handed)
-        self.assertIs(type(taken.exception), refusal)
-        self.assertIs(getattr(taken.exception, name), thing)
 
     def put(self, table, things, key, thing):
         """Puts into both, and sees what is told of the split."""

@@ -45,3 +45,25 @@ def some_entries(many, draw):
     """Entries of unlike keys, small, far and of one room, in whatever order."""
     keys = list(range(40)) + edge_keys() + drawn_keys(60) + [64 * at + 3 for at in range(1, 40)]
     return [(key, draw.choice(WORDS)) for key in draw.sample(sorted(set(keys)), many)]
+
+
+def some_keys(many, draw):
+    """Unlike keys, small, far and of one room, in whatever order."""
+    return [key for key, thing in some_entries(many, draw)]
+
+
+def parted_book(count, rooms, stays_of):
+    """A book of no known keys: of what a room had that was split, stays_of(new, had) stays."""
+    had, book = [count], []
+    for many in range(1, rooms):
+        room = int("0" + bin(many)[3:], 2)
+        stays = stays_of(many, had[room])
+        book.append((room, many, stays, had[room] - stays))
+        had.append(had[room] - stays)
+        had[room] = stays
+    return book
+
+
+def drawn_book(count, rooms, draw):
+    """A book of no known keys: each room's number parted by chance."""
+    return parted_book(count, rooms, lambda new, had: draw.choice((0, had, draw.randint(0, had))))
