@@ -2,9 +2,14 @@
 
 from tailrooms.bits import KEY_BITS, bits_for, room_of, turned
 from tailrooms.errors import NoMark
-from tailrooms.kinds import is_key
+from tailrooms.kinds import is_key, is_whole
 
 END = 2 ** 60
+
+
+def is_mark(thing):
+    """Whether the thing is a whole number from 0 to END."""
+    return is_whole(thing) and 0 <= thing <= END
 
 
 def stretch_of(room, rooms):

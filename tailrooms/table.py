@@ -1,8 +1,9 @@
 """Tables: things by keys, in as many rooms as their keys ask for."""
 
+from tailrooms.asks import ask_entry, ask_key, ask_sizes
 from tailrooms.bits import joined_of, room_of, split_of
-from tailrooms.errors import Full, Lacking, NoKey, NoRoom, NoSize, NoThing
-from tailrooms.kinds import is_key, is_name, is_size, is_whole
+from tailrooms.errors import Full, Lacking, NoRoom
+from tailrooms.kinds import is_whole
 from tailrooms.rows import cut_rows, looked, rows_of
 from tailrooms.spread import counts, longest, spill, spread
 
@@ -18,10 +19,7 @@ class Table:
     """Entries in rooms, rows of wide entries each, at most fill times the rooms of them."""
 
     def __init__(self, wide, fill):
-        if not is_size(wide):
-            raise NoSize(wide)
-        if not is_size(fill):
-            raise NoSize(fill)
+        ask_sizes(wide, fill)
         self.wide = wide
         self.fill = fill
         # Rooms and rows are reckoned from the entries alone, so the same entries are always the same table.
@@ -29,10 +27,7 @@ class Table:
 
     def put(self, key, thing):
         """Lays the thing by the key; tells (room, new, keys) of the room that was split for it, or None."""
-        if not is_key(key):
-            raise NoKey(key)
-        if not is_name(thing):
-            raise NoThing(thing)
+        ask_entry(key, thing)
         if key not in self.held and self.count() >= MOST_KEYS:
             raise Full(MOST_KEYS)
         ahead = self.rooms()
@@ -59,8 +54,7 @@ class Table:
 
     def looks(self, key):
         """The tuple (found, looks) of any key in its room's rows."""
-        if not is_key(key):
-            raise NoKey(key)
+        ask_key(key)
         rooms = self.rooms()
         own = self.spread_keys(rooms)[room_of(key, rooms)]
         return looked(rows_of(own, self.wide), key)
@@ -100,8 +94,7 @@ class Table:
 
     def ask_standing(self, key):
         """Refuses what is no key, then a key that doesn't stand."""
-        if not is_key(key):
-            raise NoKey(key)
+        ask_key(key)
         if key not in self.held:
             raise Lacking(key)
 

@@ -16,12 +16,17 @@ def is_clean(yard):
     """Whether the yard is the clean one of some entries."""
     wide, rooms, held = yard
     # Where a key stands twice the clean yard has it but once, so it isn't this one.
-    return yard_of(wide, rooms, [entry for rows in held for entry in entries_in(rows)]) == yard
+    return yard_of(wide, rooms, all_entries(yard)) == yard
 
 
 def entries_in(rows):
     """All entries of the rows, in their order."""
     return [entry for row in rows for entry in row]
+
+
+def all_entries(yard):
+    """All entries of the yard, room by room and row by row."""
+    return [entry for rows in yard[2] for entry in entries_in(rows)]
 
 
 def rows_at(held, room):

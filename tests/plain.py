@@ -13,6 +13,11 @@ def tail(key, many):
     return int("0" + written(key)[60 - many:], 2)
 
 
+def plain_turned(key):
+    """The number of the written key, read from its end."""
+    return int(written(key)[::-1], 2)
+
+
 def level_by_doubling(rooms):
     found = 0
     while 2 ** (found + 1) <= rooms:

@@ -55,6 +55,20 @@ INTERFACE = {
     "marks": {
         "END": None, "stretch_of": ["room", "rooms"], "line_of": ["rooms"], "room_at": ["mark", "rooms"],
     },
+    "walks": {
+        "page": ["table", "mark"], "walked": ["table"], "ahead": ["table", "mark"], "is_walk": ["entries", "thing"],
+    },
+    "keeper": {
+        "Keeper": ["wide", "fill"], "Keeper.put": ["self", "key", "thing"], "Keeper.drop": ["self", "key"],
+        "Keeper.mend": ["self"], "Keeper.run": ["self"], "Keeper.stop": ["self"], "Keeper.step": ["self"],
+        "Keeper.left": ["self"], "Keeper.entries": ["self"], "Keeper.find": ["self", "key"], "Keeper.yard": ["self"],
+        "Keeper.settled": ["self"],
+    },
+    "texts": {
+        "show_rows": ["rows"], "show_step": ["step"], "show_yard": ["yard"], "read_rows": ["text"],
+        "read_step": ["text"], "read_yard": ["text"],
+    },
+    "desk": {"Desk": [], "Desk.say": ["self", "line"]},
 }
 BAD = (
     "import os\n", "from os import path\n", "x = 1\nx = 2\n", "def f(*xs):\n    return 1\n", "x = 1.5\n",

@@ -6,16 +6,11 @@ from random import Random
 from tailrooms import marks
 from tailrooms.errors import NoMark
 from tailrooms.marks import line_of, room_at, stretch_of
-from plain import ways, written
+from plain import plain_turned, ways
 from refusing import RefusalTest
-from things import END, FAR, drawn_keys, edge_keys, whatever
+from things import END, NO_MARKS, drawn_keys, edge_keys
 
 ALL_ROOMS = range(1, 131)
-NO_MARKS = whatever() + [-1, -5, -END, END, END + 1, 2 ** 61, 10 ** 30, FAR, -FAR, "0", "5", "end", [0], (0,), {0: 0}]
-
-
-def plain_turned(key):
-    return int(written(key)[::-1], 2)
 
 
 def room_by_key(mark, rooms):

@@ -5,18 +5,11 @@ from random import Random
 
 from tailrooms.further import greatest_spill, least_spill
 from tailrooms.outlook import outlook
-from tailrooms.table import Table
+from filling import filled_by_keys
 from plain import all_puts, plain_rooms_for, plain_spill, plain_spread, ways
 from things import END, edge_keys, some_keys
 
 SIZES = range(1, 9)
-
-
-def filled(wide, fill, keys):
-    table = Table(wide, fill)
-    for key in keys:
-        table.put(key, "a")
-    return table
 
 
 def keys_by(put, keys, rooms):
@@ -66,7 +59,7 @@ class Outlook(unittest.TestCase):
         for wide in SIZES:
             for fill in SIZES:
                 keys = some_keys(draw.choice((1, 2, 5, 20, 40)), draw)
-                table = filled(wide, fill, keys)
+                table = filled_by_keys(wide, fill, keys)
                 self.outlook(keys, wide, fill, 0, (table.rooms(), table.spill(), table.spill()))
 
     def test_full(self):
@@ -74,7 +67,7 @@ class Outlook(unittest.TestCase):
         for wide in SIZES:
             for fill in SIZES:
                 keys = some_keys(64, draw)
-                table = filled(wide, fill, keys)
+                table = filled_by_keys(wide, fill, keys)
                 self.outlook(keys, wide, fill, 0, (table.rooms(), table.spill(), table.spill()))
                 for many in (1, 32, 63):
                     self.outlook(keys[:many], wide, fill, 64 - many)
@@ -113,7 +106,7 @@ class Spill(unittest.TestCase):
             stand = keys[:draw.randint(0, len(keys))]
             wide, fill = draw.choice(SIZES), draw.choice(SIZES)
             rooms, least, greatest = outlook(stand, wide, fill, len(keys) - len(stand))
-            table = filled(wide, fill, keys)
+            table = filled_by_keys(wide, fill, keys)
             self.assertEqual(table.rooms(), rooms)
             self.assertTrue(least <= table.spill() <= greatest)
 
@@ -127,7 +120,7 @@ class Spill(unittest.TestCase):
             counts = [len(own) for own in plain_spread(keys, rooms)]
             for answer, told in ((least, least_spill), (greatest, greatest_spill)):
                 put = told(counts, wide, more)[1]
-                table = filled(wide, fill, keys + keys_by(put, keys, rooms))
+                table = filled_by_keys(wide, fill, keys + keys_by(put, keys, rooms))
                 self.assertEqual((table.count(), table.rooms(), table.spill()), (len(keys) + more, rooms, answer))
 
 

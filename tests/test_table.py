@@ -6,14 +6,12 @@ from random import Random
 
 from tailrooms.errors import Full, Lacking, NoKey, NoRoom, NoSize, NoThing
 from tailrooms.table import Table, rooms_for
+from filling import filled
 from plain import plain_rooms_for, plain_rows, plain_look, plain_spread, plain_table
 from refusing import RefusalTest
-from things import END, FAR, WORDS, drawn_keys, edge_keys, some_entries, whatever
+from things import END, FAR, NO_KEYS, NO_SIZES, NO_THINGS, WORDS, drawn_keys, edge_keys, some_entries, whatever
 
 SIZES = range(1, 9)
-NO_KEYS = whatever() + [-1, -END, END, END + 1, 2 ** 64, FAR, -FAR, "a", "5", "abc"]
-NO_THINGS = whatever() + [0, 1, -1, 5, END, FAR, "abcdefghi", "aB", "a1", "a-b"]
-NO_SIZES = whatever() + [0, 9, 10, -1, -8, END, END + 1, FAR, -FAR, "a", "8"]
 
 
 def told(table):
@@ -25,13 +23,6 @@ def told(table):
         "spill": table.spill(), "longest": table.longest(),
         "find": {key: table.find(key) for key in keys}, "looks": {key: table.looks(key) for key in keys},
     }
-
-
-def filled(wide, fill, entries):
-    table = Table(wide, fill)
-    for key, thing in entries:
-        table.put(key, thing)
-    return table
 
 
 class TableTest(RefusalTest):

@@ -18,6 +18,13 @@ def whatever():
     ]
 
 
+# What is no key, no thing, no wide or fill, and no mark below END.
+NO_KEYS = whatever() + [-1, -END, END, END + 1, 2 ** 64, FAR, -FAR, "a", "5", "abc"]
+NO_THINGS = whatever() + [0, 1, -1, 5, END, FAR, "abcdefghi", "aB", "a1", "a-b"]
+NO_SIZES = whatever() + [0, 9, 10, -1, -8, END, END + 1, FAR, -FAR, "a", "8"]
+NO_MARKS = whatever() + [-1, -5, -END, END, END + 1, 2 ** 61, 10 ** 30, FAR, -FAR, "0", "5", "end", [0], (0,), {0: 0}]
+
+
 def drawn_keys(many):
     """The same keys each time, some of few bits and some of many."""
     draw = Random(60)
